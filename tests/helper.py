@@ -3,6 +3,7 @@
 import copy
 import itertools
 import random
+import sys
 import unittest
 
 from webintoweb import errors
@@ -106,6 +107,84 @@ def spoiled(thing):
     return found
 
 
+def strike_goes(W, V, lists, strike):
+    """Whether a strike goes, by the very words of the document."""
+    a, x, b, way = strike
+    if x not in lists[a]:
+        return False
+    if way == "out":
+        return (a, b) in W[1] and not any((x, y) in V[1] for y in lists[b])
+    return (b, a) in W[1] and not any((y, x) in V[1] for y in lists[b])
+
+
+def without(lists, strike):
+    """The lists, struck."""
+    return put(lists, strike[0], [x for x in lists[strike[0]] if x != strike[1]])
+
+
+def put(lists, a, places):
+    """The lists with places for a's."""
+    return tuple(tuple(places) if b == a else row for b, row in enumerate(lists))
+
+
+def all_strikes(W, V):
+    """All strikes by kind."""
+    return list(itertools.product(range(W[0]), range(V[0]), range(W[0]), ("out", "in")))
+
+
+def going(W, V, lists):
+    """All strikes that go by the lists."""
+    return [strike for strike in all_strikes(W, V) if strike_goes(W, V, lists, strike)]
+
+
+def some_paper(chance, W, V, lists):
+    """A none paper as anyone might write it, of lists that no leading keeps."""
+    strikes = []
+    open_places = [a for a in range(W[0]) if len(lists[a]) != 1]
+    while going(W, V, lists) and (chance.randrange(3) or not open_places):
+        strikes.append(chance.choice(going(W, V, lists)))
+        lists = without(lists, strikes[-1])
+        open_places = [a for a in range(W[0]) if len(lists[a]) != 1]
+    void = [a for a in range(W[0]) if not lists[a]]
+    if void and chance.randrange(3):
+        return (tuple(strikes), ("void", chance.choice(void)))
+    a = chance.choice(void or open_places) if chance.randrange(4) else chance.randrange(W[0])
+    return (tuple(strikes), ("cases", a, tuple(
+        some_paper(chance, W, V, put(lists, a, (x,))) for x in lists[a])))
+
+
+def refusal_due(W, V, lists, thing, path=()):
+    """The (path, word, number) with which a thing is refused as a none paper, or None, by the very words."""
+    def place(k, n):
+        return isinstance(k, int) and not isinstance(k, bool) and k in range(n)
+
+    def kind(strike):
+        return isinstance(strike, tuple) and len(strike) == 4 and place(strike[0], W[0]) and \
+            place(strike[1], V[0]) and place(strike[2], W[0]) and strike[3] in ("out", "in")
+
+    def end_kind(end):
+        return isinstance(end, tuple) and (
+            len(end) == 2 and end[0] == "void" and place(end[1], W[0])
+            or len(end) == 3 and end[0] == "cases" and place(end[1], W[0]) and isinstance(end[2], tuple))
+
+    if not isinstance(thing, tuple) or len(thing) != 2 or not isinstance(thing[0], tuple):
+        return (path, "shape", -1)
+    if not all(map(kind, thing[0])) or not end_kind(thing[1]):
+        return (path, "shape", -1)
+    for k, strike in enumerate(thing[0]):
+        if not strike_goes(W, V, lists, strike):
+            return (path, "strike", k)
+        lists = without(lists, strike)
+    a = thing[1][1]
+    if thing[1][0] == "void":
+        return (path, "void", a) if lists[a] else None
+    if len(thing[1][2]) != len(lists[a]):
+        return (path, "parts", len(lists[a]))
+    found = [refusal_due(W, V, put(lists, a, (x,)), inner, path + (k,))
+             for k, (x, inner) in enumerate(zip(lists[a], thing[1][2]))]
+    return next((due for due in found if due), None)
+
+
 class Promise(unittest.TestCase):
     """Calls that are made twice, and looked at for what they do to what they are handed."""
 
@@ -124,6 +203,18 @@ class Promise(unittest.TestCase):
         self.same(second, kept)
         self.same(things, before)
         return second
+
+    def shallow(self, asked, *things):
+        """What is told where no more than two hundred calls may stand within one another."""
+        limit = sys.getrecursionlimit()
+        frame, used = sys._getframe(), 0
+        while frame:
+            frame, used = frame.f_back, used + 1
+        sys.setrecursionlimit(used + 200)
+        try:
+            return asked(*things)
+        finally:
+            sys.setrecursionlimit(limit)
 
     def tells(self, due, asked, *things):
         self.same(self.told(asked, *things), due)

@@ -1,4 +1,4 @@
-"""What several modules ask of plain things and written words."""
+"""What several modules ask of plain things, written words and lists."""
 
 
 def is_whole(thing):
@@ -31,3 +31,8 @@ def number_written(word, low, end):
         if str(number) == word:
             return number
     return None
+
+
+def with_list(lists, a, places):
+    """The lists with places in the place of a's list."""
+    return lists[:a] + (places,) + lists[a + 1:]

@@ -1,0 +1,48 @@
+"""The interface: each name stands in its module, and takes as many arguments as are told."""
+
+import importlib
+import inspect
+import unittest
+
+INTERFACE = {
+    "errors": {
+        "NoText": 2, "NoPaper": 3, "TooMany": 1, "NoCore": 2, "NoLeast": 1, "NoPairs": 2, "NoBar": 1, "NoHold": 2,
+        "NoLevel": 0, "NoRow": 1,
+    },
+    "webs": {
+        "is_web": 1, "web_of": 2, "has_tie": 3, "outs": 2, "ins": 2, "loops": 1, "part": 2, "backwards": 1,
+        "renamed": 2, "pieces": 1,
+    },
+    "families": {"all_web": 1, "round_web": 1, "line_web": 1, "way_web": 1},
+    "leadings": {
+        "is_leading": 3, "are_lists": 3, "full_lists": 2, "met_lists": 2, "ends_kept": 3, "keeps": 2, "behind": 2,
+        "itself": 1, "hit": 1, "classes_of": 1, "is_onto": 2, "is_one_to_one": 1,
+    },
+    "turnings": {"is_turning": 2, "undone": 1, "again": 2, "still_number": 1},
+    "drawing": {"are_classes": 2, "drawn": 2, "taken_apart": 2},
+    "webtexts": {"shown": 1, "read": 1},
+    "leadtexts": {"leading_text": 1, "lists_text": 1, "read_leading": 3, "read_lists": 3},
+    "strikes": {"goes": 4, "struck": 2},
+    "closing": {"closed": 3, "closing_of": 3},
+    "nonechecker": {"lets_none": 4},
+    "finding": {"led": 3, "void_paper": 3},
+    "barred": {"laid_in": 2, "narrowed": 5, "turned_about": 1},
+    "counting": {"all_leadings": 3, "count": 3},
+}
+
+
+class Interface(unittest.TestCase):
+    def test_names_and_arguments(self):
+        for module, names in INTERFACE.items():
+            found = importlib.import_module("webintoweb." + module)
+            for name, many in names.items():
+                thing = getattr(found, name)
+                self.assertEqual(thing.__module__, "webintoweb." + module, name)
+                if inspect.isfunction(thing):
+                    self.assertEqual(len(inspect.signature(thing).parameters), many, name)
+                else:
+                    thing(*range(many))
+
+
+if __name__ == "__main__":
+    unittest.main()

@@ -1,0 +1,38 @@
+"""Strikes: things that go out of lists because a tie has nowhere to go."""
+
+from webintoweb.plain import is_place, with_list
+
+
+def is_strike_by_kind(W, V, thing):
+    """Whether any plain thing is a strike by webs W and V, one that goes or not."""
+    if not isinstance(thing, tuple) or len(thing) != 4:
+        return False
+    a, x, b, way = thing
+    if not is_place(a, W[0]) or not is_place(x, V[0]) or not is_place(b, W[0]):
+        return False
+    return way == "out" or way == "in"
+
+
+def goes(W, V, lists, strike):
+    """Whether a strike goes by the lists."""
+    a, x, b, way = strike
+    tie = (a, b) if way == "out" else (b, a)
+    return tie in W[1] and stands_alone(V[1], lists, strike)
+
+
+def stands_alone(ties, lists, strike):
+    """Whether x stands in the list of a without any tie, that way, to the list of b."""
+    a, x, b, way = strike
+    if x not in lists[a]:
+        return False
+    for y in lists[b]:
+        tie = (x, y) if way == "out" else (y, x)
+        if tie in ties:
+            return False
+    return True
+
+
+def struck(lists, strike):
+    """The lists without what the strike takes."""
+    a, x = strike[:2]
+    return with_list(lists, a, tuple([y for y in lists[a] if y != x]))
