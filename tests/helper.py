@@ -2,6 +2,7 @@
 
 import copy
 import itertools
+import math
 import random
 import sys
 import unittest
@@ -24,6 +25,21 @@ FIELDS = {
     errors.NoHold: ("place", "number"),
     errors.NoLevel: (),
     errors.NoRow: ("row",),
+}
+
+# Words that stand in papers, and those that might stand there in their place.
+WORDS_OF = {
+    "out": ("out", "in", "else"), "in": ("out", "in", "else"), "else": ("out", "in", "else"),
+    "void": ("cases",), "cases": ("void",), "all": ("void",), "apart": ("cases",),
+    "alike": ("not",), "not": ("alike",), "counts": ("all",),
+}
+
+# Ends of papers, and those that might stand there in their place.
+ENDS = {
+    "void": (("void", 0), ("void", 1), ("cases", 0, ()), ("cases", 1, (((), ("void", 0)),))),
+    "cases": (("all",), ("void", 0), ("void", 1), ("cases", 1, ()), ("cases", 0, (((), ("void", 0)),) * 2)),
+    "all": (("all",), ("void", 0), ("apart", (0,), ((), ("all",)), ((), ("all",))), ("cases", 0, (((), ("all",)),))),
+    "apart": (("all",), ("void", 0), ("apart", (1,), ((), ("all",)), ((), ("all",)))),
 }
 
 
@@ -183,6 +199,77 @@ def refusal_due(W, V, lists, thing, path=()):
     found = [refusal_due(W, V, put(lists, a, (x,)), inner, path + (k,))
              for k, (x, inner) in enumerate(zip(lists[a], thing[1][2]))]
     return next((due for due in found if due), None)
+
+
+def count_due(W, V, lists, thing, path=()):
+    """The count that a thing shows as a count paper, or the (path, word, 0) with which it is refused, by the words."""
+    def place(k, n=W[0]):
+        return isinstance(k, int) and not isinstance(k, bool) and k in range(n)
+
+    def strike_kind(strike):
+        return isinstance(strike, tuple) and len(strike) == 4 and place(strike[0]) and place(strike[1], V[0]) and \
+            place(strike[2]) and strike[3] in ("out", "in")
+
+    def rising(places):
+        return isinstance(places, tuple) and all(map(place, places)) and list(places) == sorted(set(places))
+
+    def end_kind(end):
+        return isinstance(end, tuple) and (
+            end == ("all",)
+            or len(end) == 2 and end[0] == "void" and place(end[1])
+            or len(end) == 3 and end[0] == "cases" and place(end[1]) and isinstance(end[2], tuple)
+            or len(end) == 4 and end[0] == "apart" and rising(end[1]) and 0 < len(end[1]) < W[0])
+
+    def worth(own, own_lists, inner, k):
+        return count_due(own, V, own_lists, inner, path + (k,))
+
+    if len(path) > 20:
+        return (path, "deep", 0)
+    if not isinstance(thing, tuple) or len(thing) != 2 or not isinstance(thing[0], tuple):
+        return (path, "shape", 0)
+    if not all(map(strike_kind, thing[0])) or not end_kind(thing[1]):
+        return (path, "shape", 0)
+    for strike in thing[0]:
+        if not strike_goes(W, V, lists, strike):
+            return (path, "strike", 0)
+        lists = without(lists, strike)
+    word, *rest = thing[1]
+    if word == "all":
+        fits = all((x, y) in V[1] for a, b in W[1] for x in lists[a] for y in lists[b] if a != b or x == y)
+        return math.prod(map(len, lists)) if fits else (path, "all", 0)
+    if word == "void":
+        return (path, "void", 0) if lists[rest[0]] else 0
+    if word == "cases":
+        a, parts = rest
+        if len(parts) != len(lists[a]):
+            return (path, "cases", 0)
+        found = [worth(W, put(lists, a, (x,)), inner, k) for k, (x, inner) in enumerate(zip(lists[a], parts))]
+    else:
+        places, *halves = rest
+        if any(len({a, b} & set(places)) == 1 for a, b in W[1] if a != b):
+            return (path, "apart", 0)
+        others = [a for a in range(W[0]) if a not in places]
+        found = [worth((len(own), tuple((own.index(a), own.index(b)) for a, b in W[1] if a in own and b in own)),
+                       tuple(lists[a] for a in own), half, k)
+                 for k, (own, half) in enumerate(zip((list(places), others), halves))]
+    amiss = [due for due in found if not isinstance(due, int)]
+    if amiss:
+        return amiss[0]
+    return sum(found) if word == "cases" else math.prod(found)
+
+
+def otherwise(chance, thing):
+    """The thing with something in it otherwise."""
+    if isinstance(thing, tuple) and thing and thing[0] in ENDS and chance.randrange(2):
+        return chance.choice(ENDS[thing[0]])
+    if isinstance(thing, tuple) and thing and chance.randrange(8):
+        k = chance.randrange(len(thing))
+        return thing[:k] + (otherwise(chance, thing[k]),) + thing[k + 1:]
+    if isinstance(thing, tuple):
+        return chance.choice([(), thing[:-1], thing + thing[-1:], thing[::-1], list(thing)])
+    if isinstance(thing, str):
+        return chance.choice([word for word in WORDS_OF.get(thing, ("",)) if word != thing])
+    return chance.choice([thing + 1, thing - 1, thing + 1, abs(thing - 1), True])
 
 
 class Promise(unittest.TestCase):

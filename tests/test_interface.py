@@ -28,6 +28,17 @@ INTERFACE = {
     "finding": {"led": 3, "void_paper": 3},
     "barred": {"laid_in": 2, "narrowed": 5, "turned_about": 1},
     "counting": {"all_leadings": 3, "count": 3},
+    "countchecker": {"counted_by": 4},
+    "countpapers": {"count_paper": 3},
+    "together": {
+        "side": 2, "paired": 2, "side_first": 2, "side_last": 2, "over_side": 2, "cut_side": 2, "paired_first": 2,
+        "paired_last": 2, "into_paired": 3, "cut_paired": 2,
+    },
+    "powers": {"power": 2, "number_of": 3, "tuple_of": 3, "taken_in": 4, "given_out": 4},
+    "alikechecker": {"lets_alike": 3},
+    "aliking": {"alike_told": 2},
+    "boundchecker": {"lets_above": 3, "lets_below": 3},
+    "bounding": {"above_told": 1, "below_told": 1},
 }
 
 

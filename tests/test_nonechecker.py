@@ -5,7 +5,8 @@ import random
 import unittest
 
 from helper import (
-    JUNK, Promise, all_led, all_webs, nested, refusal_due, some_lists, some_paper, some_web, some_webs, spoiled, web,
+    JUNK, Promise, all_led, all_webs, nested, otherwise, refusal_due, some_lists, some_paper, some_web, some_webs,
+    spoiled, web,
 )
 from webintoweb.errors import NoPaper
 from webintoweb.families import all_web, line_web, round_web
@@ -281,18 +282,6 @@ class Refused(Promise):
                     for end in [("void", 0), ("void", 1), ("cases", 0, ()), ("cases", 1, (CASES, CASES))]:
                         with self.assertRaises(NoPaper):
                             lets_none(W, V, lists, (strikes, end))
-
-
-def otherwise(chance, thing):
-    """The thing with something in it otherwise."""
-    if isinstance(thing, tuple) and thing and chance.randrange(8):
-        k = chance.randrange(len(thing))
-        return thing[:k] + (otherwise(chance, thing[k]),) + thing[k + 1:]
-    if isinstance(thing, tuple):
-        return chance.choice([(), thing[:-1], thing + thing[-1:], thing[::-1], list(thing)])
-    if isinstance(thing, str):
-        return {"out": "in", "in": "out", "void": "cases", "cases": "void"}[thing]
-    return chance.choice([thing + 1, thing - 1, thing + 1, abs(thing - 1), True])
 
 
 if __name__ == "__main__":

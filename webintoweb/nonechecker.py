@@ -2,7 +2,7 @@
 
 from webintoweb.errors import NoPaper
 from webintoweb.plain import is_place, with_list
-from webintoweb.strikes import goes, is_strike_by_kind, struck
+from webintoweb.strikes import are_strikes_by_kind, struck_as_far
 
 
 def lets_none(W, V, lists, thing):
@@ -16,10 +16,9 @@ def look_at(W, V, lists, thing, path):
     if not is_paper_by_kind(W, V, thing):
         raise NoPaper(path, "shape", -1)
     strikes, end = thing
-    for k, strike in enumerate(strikes):
-        if not goes(W, V, lists, strike):
-            raise NoPaper(path, "strike", k)
-        lists = struck(lists, strike)
+    far, lists = struck_as_far(W, V, lists, strikes)
+    if far < len(strikes):
+        raise NoPaper(path, "strike", far)
     if end[0] == "void":
         look_at_void(lists, end[1], path)
     else:
@@ -46,10 +45,7 @@ def is_paper_by_kind(W, V, thing):
     """Whether thing has strikes and an end, whatever its parts are."""
     if not isinstance(thing, tuple) or len(thing) != 2:
         return False
-    strikes, end = thing
-    if not isinstance(strikes, tuple) or not is_end_by_kind(W, end):
-        return False
-    return all(is_strike_by_kind(W, V, strike) for strike in strikes)
+    return are_strikes_by_kind(W, V, thing[0]) and is_end_by_kind(W, thing[1])
 
 
 def is_end_by_kind(W, thing):

@@ -13,6 +13,11 @@ def is_strike_by_kind(W, V, thing):
     return way == "out" or way == "in"
 
 
+def are_strikes_by_kind(W, V, thing):
+    """Whether any plain thing is a tuple of strikes by webs W and V, whether they go or not."""
+    return isinstance(thing, tuple) and all(is_strike_by_kind(W, V, strike) for strike in thing)
+
+
 def goes(W, V, lists, strike):
     """Whether a strike goes by the lists."""
     a, x, b, way = strike
@@ -36,3 +41,12 @@ def struck(lists, strike):
     """The lists without what the strike takes."""
     a, x = strike[:2]
     return with_list(lists, a, tuple([y for y in lists[a] if y != x]))
+
+
+def struck_as_far(W, V, lists, strikes):
+    """How many of the strikes go, one behind another, and the lists that these leave."""
+    for k, strike in enumerate(strikes):
+        if not goes(W, V, lists, strike):
+            return (k, lists)
+        lists = struck(lists, strike)
+    return (len(strikes), lists)
