@@ -128,6 +128,8 @@ def strike_goes(W, V, lists, strike):
     a, x, b, way = strike
     if x not in lists[a]:
         return False
+    if way == "else":
+        return b != a and lists[b] == (x,)
     if way == "out":
         return (a, b) in W[1] and not any((x, y) in V[1] for y in lists[b])
     return (b, a) in W[1] and not any((y, x) in V[1] for y in lists[b])
@@ -143,22 +145,22 @@ def put(lists, a, places):
     return tuple(tuple(places) if b == a else row for b, row in enumerate(lists))
 
 
-def all_strikes(W, V):
+def all_strikes(W, V, ways=("out", "in")):
     """All strikes by kind."""
-    return list(itertools.product(range(W[0]), range(V[0]), range(W[0]), ("out", "in")))
+    return list(itertools.product(range(W[0]), range(V[0]), range(W[0]), ways))
 
 
-def going(W, V, lists):
+def going(W, V, lists, ways=("out", "in")):
     """All strikes that go by the lists."""
-    return [strike for strike in all_strikes(W, V) if strike_goes(W, V, lists, strike)]
+    return [strike for strike in all_strikes(W, V, ways) if strike_goes(W, V, lists, strike)]
 
 
-def some_paper(chance, W, V, lists):
-    """A none paper as anyone might write it, of lists that no leading keeps."""
+def some_paper(chance, W, V, lists, ways=("out", "in")):
+    """A none paper as anyone might write it, of lists that no leading keeps, or none that these ways let by."""
     strikes = []
     open_places = [a for a in range(W[0]) if len(lists[a]) != 1]
-    while going(W, V, lists) and (chance.randrange(3) or not open_places):
-        strikes.append(chance.choice(going(W, V, lists)))
+    while going(W, V, lists, ways) and (chance.randrange(3) or not open_places):
+        strikes.append(chance.choice(going(W, V, lists, ways)))
         lists = without(lists, strikes[-1])
         open_places = [a for a in range(W[0]) if len(lists[a]) != 1]
     void = [a for a in range(W[0]) if not lists[a]]
@@ -166,17 +168,17 @@ def some_paper(chance, W, V, lists):
         return (tuple(strikes), ("void", chance.choice(void)))
     a = chance.choice(void or open_places) if chance.randrange(4) else chance.randrange(W[0])
     return (tuple(strikes), ("cases", a, tuple(
-        some_paper(chance, W, V, put(lists, a, (x,))) for x in lists[a])))
+        some_paper(chance, W, V, put(lists, a, (x,)), ways) for x in lists[a])))
 
 
-def refusal_due(W, V, lists, thing, path=()):
+def refusal_due(W, V, lists, thing, path=(), ways=("out", "in")):
     """The (path, word, number) with which a thing is refused as a none paper, or None, by the very words."""
     def place(k, n):
         return isinstance(k, int) and not isinstance(k, bool) and k in range(n)
 
     def kind(strike):
         return isinstance(strike, tuple) and len(strike) == 4 and place(strike[0], W[0]) and \
-            place(strike[1], V[0]) and place(strike[2], W[0]) and strike[3] in ("out", "in")
+            place(strike[1], V[0]) and place(strike[2], W[0]) and strike[3] in ways
 
     def end_kind(end):
         return isinstance(end, tuple) and (
@@ -196,7 +198,7 @@ def refusal_due(W, V, lists, thing, path=()):
         return (path, "void", a) if lists[a] else None
     if len(thing[1][2]) != len(lists[a]):
         return (path, "parts", len(lists[a]))
-    found = [refusal_due(W, V, put(lists, a, (x,)), inner, path + (k,))
+    found = [refusal_due(W, V, put(lists, a, (x,)), inner, path + (k,), ways)
              for k, (x, inner) in enumerate(zip(lists[a], thing[1][2]))]
     return next((due for due in found if due), None)
 
@@ -256,6 +258,33 @@ def count_due(W, V, lists, thing, path=()):
     if amiss:
         return amiss[0]
     return sum(found) if word == "cases" else math.prod(found)
+
+
+def first_pairs(one, other, lists):
+    """The first table, by the very words of the document."""
+    def stands(a, b, x, y):
+        return x in lists[a] and y in lists[b] and (a != b or x == y) and \
+            ((a, b) not in one[1] or (x, y) in other[1]) and ((b, a) not in one[1] or (y, x) in other[1])
+
+    pairs = list(itertools.product(range(other[0]), repeat=2))
+    return tuple(tuple(tuple((x, y) for x, y in pairs if stands(a, b, x, y)) for b in range(one[0]))
+                 for a in range(one[0]))
+
+
+def pair_strikes(table, m):
+    """All strikes of a table of places below m, by the very words of the document."""
+    n = len(table)
+    return [(a, b, x, y, c) for a in range(n) for b in range(n) for x, y in table[a][b] for c in range(n)
+            if not any((x, z) in table[a][c] and (z, y) in table[c][b] for z in range(m))]
+
+
+def pairs_struck(table, strike):
+    """The table, struck."""
+    a, b, x, y, _ = strike
+    away = {(a, b): (x, y)}
+    back = {(b, a): (y, x)}
+    return tuple(tuple(tuple(pair for pair in pairs if away.get((c, d)) != pair and back.get((c, d)) != pair)
+                       for d, pairs in enumerate(row)) for c, row in enumerate(table))
 
 
 def otherwise(chance, thing):

@@ -39,6 +39,13 @@ INTERFACE = {
     "aliking": {"alike_told": 2},
     "boundchecker": {"lets_above": 3, "lets_below": 3},
     "bounding": {"above_told": 1, "below_told": 1},
+    "ranks": {"below_table": 1, "classes": 1},
+    "corechecker": {"lets_core": 2, "lets_least": 2},
+    "unlikechecker": {"lets_unlike": 3},
+    "cores": {"core_told": 1, "all_turnings": 1, "least_told": 1, "least_web": 1},
+    "sames": {"same_told": 2},
+    "pairclosing": {"first_table": 3, "closed_table": 3, "is_strike": 2},
+    "pairchecker": {"lets_pairs": 4},
 }
 
 

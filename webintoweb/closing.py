@@ -1,6 +1,6 @@
 """Lists struck as long as any strike goes."""
 
-from webintoweb.strikes import stands_alone, struck
+from webintoweb.strikes import must_go, struck
 
 
 def closed(W, V, lists):
@@ -15,15 +15,18 @@ def closing_of(W, V, lists):
 
 def closing_and_lists(W, V, lists):
     """A closing, and the closed lists that it leaves."""
-    possible = possible_strikes(W, V)
-    ties = {tie: True for tie in V[1]}
+    return closed_by(possible_strikes(W, V), {tie: True for tie in V[1]}, lists)
+
+
+def closed_by(possible, ties, lists):
+    """Those of the possible strikes that go one behind another until none goes, and the lists that they leave."""
     strikes = []
     before = -1
     # A strike that does not go may go behind others: so all are tried again until a round brings none.
     while len(strikes) > before:
         before = len(strikes)
         for strike in possible:
-            if stands_alone(ties, lists, strike):
+            if must_go(ties, lists, strike):
                 strikes.append(strike)
                 lists = struck(lists, strike)
     return (tuple(strikes), lists)

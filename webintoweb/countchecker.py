@@ -3,7 +3,7 @@
 from webintoweb.errors import NoPaper
 from webintoweb.nonechecker import is_end_by_kind
 from webintoweb.plain import are_rising, with_list
-from webintoweb.strikes import are_strikes_by_kind, struck_as_far
+from webintoweb.strikes import WAYS, are_strikes_by_kind, struck_as_far
 from webintoweb.webs import part
 
 MOST_NUMBERS = 20
@@ -95,7 +95,7 @@ def is_count_paper_by_kind(W, V, thing):
     end = thing[1]
     if end != ("all",) and not is_apart_by_kind(W, end) and not is_end_by_kind(W, end):
         return False
-    return are_strikes_by_kind(W, V, thing[0])
+    return are_strikes_by_kind(W, V, thing[0], WAYS)
 
 
 def is_apart_by_kind(W, thing):

@@ -2,34 +2,39 @@
 
 from webintoweb.plain import is_place, with_list
 
+WAYS = ("out", "in")
 
-def is_strike_by_kind(W, V, thing):
-    """Whether any plain thing is a strike by webs W and V, one that goes or not."""
+
+def is_strike_by_kind(W, V, thing, ways):
+    """Whether any plain thing is a strike by webs W and V, of one of the ways, whether it goes or not."""
     if not isinstance(thing, tuple) or len(thing) != 4:
         return False
     a, x, b, way = thing
     if not is_place(a, W[0]) or not is_place(x, V[0]) or not is_place(b, W[0]):
         return False
-    return way == "out" or way == "in"
+    return way in ways
 
 
-def are_strikes_by_kind(W, V, thing):
+def are_strikes_by_kind(W, V, thing, ways):
     """Whether any plain thing is a tuple of strikes by webs W and V, whether they go or not."""
-    return isinstance(thing, tuple) and all(is_strike_by_kind(W, V, strike) for strike in thing)
+    return isinstance(thing, tuple) and all(is_strike_by_kind(W, V, strike, ways) for strike in thing)
 
 
 def goes(W, V, lists, strike):
     """Whether a strike goes by the lists."""
     a, x, b, way = strike
-    tie = (a, b) if way == "out" else (b, a)
-    return tie in W[1] and stands_alone(V[1], lists, strike)
+    tie = (b, a) if way == "in" else (a, b)
+    # The way "else", which papers of unlike webs have, needs no tie.
+    return (way == "else" or tie in W[1]) and must_go(V[1], lists, strike)
 
 
-def stands_alone(ties, lists, strike):
-    """Whether x stands in the list of a without any tie, that way, to the list of b."""
+def must_go(ties, lists, strike):
+    """Whether x stands in the list of a, and nothing that is left in the list of b lets a be led to it."""
     a, x, b, way = strike
     if x not in lists[a]:
         return False
+    if way == "else":
+        return a != b and lists[b] == (x,)
     for y in lists[b]:
         tie = (x, y) if way == "out" else (y, x)
         if tie in ties:
