@@ -287,6 +287,77 @@ def pairs_struck(table, strike):
                        for d, pairs in enumerate(row)) for c, row in enumerate(table))
 
 
+def closed_lists(W, V, lists):
+    """The closed lists, struck one by one by the very words of the document."""
+    while going(W, V, lists):
+        lists = without(lists, going(W, V, lists)[0])
+    return lists
+
+
+def closed_pairs(one, other, lists):
+    """The closed table, struck one by one by the very words of the document."""
+    table = first_pairs(one, other, lists)
+    while pair_strikes(table, other[0]):
+        table = pairs_struck(table, pair_strikes(table, other[0])[0])
+    return table
+
+
+def is_middle_of(own, m):
+    """Whether a table by kind is a middle of a web, by the very words of the document."""
+    places = range(own[0])
+    return all(m[x][x][y] == x and m[x][y][x] == x and m[y][x][x] == x for x in places for y in places) and all(
+        (m[x][u][s], m[y][v][t]) in own[1] for (x, y), (u, v), (s, t) in itertools.product(own[1], repeat=3))
+
+
+def some_middle(chance, n):
+    """A table of n places in which two of three count, and whatever else."""
+    def told(x, y, z):
+        two = [p for p in (x, y) if (x, y, z).count(p) > 1]
+        return two[0] if two else chance.randrange(n)
+
+    return tuple(tuple(tuple(told(x, y, z) for z in range(n)) for y in range(n)) for x in range(n))
+
+
+def fits(m, lists):
+    """Whether lists fit a middle, by the very words of the document."""
+    return all(m[x][y][z] in row for row in lists for x, y, z in itertools.product(row, repeat=3))
+
+
+def some_fitting(seed, many, most):
+    """Webs of up to most places, each with a middle of it, the same ones each time."""
+    chance = random.Random(seed)
+    found = []
+    while len(found) < many:
+        own = some_web(chance, chance.randrange(most + 1), chance.randrange(1, 10))
+        for m in [some_middle(chance, own[0]) for _ in range(3)]:
+            if is_middle_of(own, m):
+                found.append((own, m))
+                break
+    return found
+
+
+def images_of(V, lists, tree):
+    """The images of a tree, by the very words of the document."""
+    def tied(x, y, way):
+        return ((x, y) if way == "out" else (y, x)) in V[1]
+
+    ends = [(way, images_of(V, lists, inner)) for way, inner in tree[1]]
+    return tuple(x for x in lists[tree[0]] if all(any(tied(x, y, way) for y in found) for way, found in ends))
+
+
+def some_tree(chance, own, a, deep):
+    """A tree of a web at a, at most deep within one another."""
+    ways = [("out", b) for c, b in own[1] if c == a] + [("in", c) for c, b in own[1] if b == a]
+    many = chance.randrange(3) if ways and deep > 1 else 0
+    chosen = [chance.choice(ways) for _ in range(many)]
+    return (a, tuple((way, some_tree(chance, own, b, deep - 1)) for way, b in chosen))
+
+
+def tree_led_on(tree, h):
+    """The tree with h[a] for each a."""
+    return (h[tree[0]], tuple((way, tree_led_on(inner, h)) for way, inner in tree[1]))
+
+
 def otherwise(chance, thing):
     """The thing with something in it otherwise."""
     if isinstance(thing, tuple) and thing and thing[0] in ENDS and chance.randrange(2):

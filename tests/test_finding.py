@@ -4,19 +4,15 @@ import itertools
 import random
 import unittest
 
-from helper import Promise, all_led, all_webs, going, refusal_due, some_lists, some_web, some_webs, web, without
+from helper import (
+    Promise, all_led, all_webs, closed_lists, refusal_due, some_lists, some_web, some_webs, web, without,
+)
 from webintoweb.families import all_web, line_web, round_web, way_web
 from webintoweb.finding import led, void_paper
 from webintoweb.leadings import ends_kept, full_lists, is_leading, keeps
 from webintoweb.nonechecker import lets_none
 
 VOID = web(0)
-
-
-def closed_lists(W, V, lists):
-    while going(W, V, lists):
-        lists = without(lists, going(W, V, lists)[0])
-    return lists
 
 
 class Asking(Promise):

@@ -46,6 +46,13 @@ INTERFACE = {
     "sames": {"same_told": 2},
     "pairclosing": {"first_table": 3, "closed_table": 3, "is_strike": 2},
     "pairchecker": {"lets_pairs": 4},
+    "pairtelling": {"pairs_told": 3},
+    "ordered": {"is_order_web": 1, "least_leading": 3, "order_names": 1},
+    "middles": {"is_middle": 2, "lists_fit": 2, "by_numbers": 1, "by_likeness": 1},
+    "enough": {"middle_told": 4, "led_through": 8},
+    "trees": {"is_tree": 2, "images": 4},
+    "barchecker": {"lets_bar": 4},
+    "bars": {"bar_told": 3},
 }
 
 

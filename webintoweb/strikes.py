@@ -35,11 +35,16 @@ def must_go(ties, lists, strike):
         return False
     if way == "else":
         return a != b and lists[b] == (x,)
-    for y in lists[b]:
+    return not has_end(ties, x, lists[b], way)
+
+
+def has_end(ties, x, places, way):
+    """Whether x has a tie, out or in, with one of places."""
+    for y in places:
         tie = (x, y) if way == "out" else (y, x)
         if tie in ties:
-            return False
-    return True
+            return True
+    return False
 
 
 def struck(lists, strike):
