@@ -31,7 +31,8 @@ FIELDS = {
 WORDS_OF = {
     "out": ("out", "in", "else"), "in": ("out", "in", "else"), "else": ("out", "in", "else"),
     "void": ("cases",), "cases": ("void",), "all": ("void",), "apart": ("cases",),
-    "alike": ("not",), "not": ("alike",), "counts": ("all",),
+    "alike": ("not",), "not": ("alike",), "counts": ("all",), "leading": ("walk",), "walk": ("leading",),
+    "free": ("loop",), "loop": ("free",), "hues": ("loop",), "tie": ("free",),
 }
 
 # Ends of papers, and those that might stand there in their place.
@@ -64,6 +65,10 @@ JUNK = (
 def web(n, *ties):
     """A web written by hand."""
     return (n, tuple(ties))
+
+
+# Six places with eight twos of them tied, some both ways.
+EIGHT = web(6, (0, 1), (1, 0), (1, 2), (2, 3), (3, 4), (4, 3), (5, 0), (5, 2), (5, 3), (5, 4))
 
 
 def all_webs(n):
@@ -353,6 +358,62 @@ def some_tree(chance, own, a, deep):
     return (a, tuple((way, some_tree(chance, own, b, deep - 1)) for way, b in chosen))
 
 
+def is_walk_kind(own, thing):
+    """Whether a thing has places and signs as a walk has, by the very words of the document."""
+    def place(k):
+        return isinstance(k, int) and not isinstance(k, bool) and k in range(own[0])
+
+    return isinstance(thing, tuple) and len(thing) == 2 and isinstance(thing[0], tuple) and \
+        isinstance(thing[1], str) and 0 < len(thing[0]) < 201 and all(map(place, thing[0])) and \
+        len(thing[1]) == len(thing[0]) - 1 and set(thing[1]) <= {"+", "-"}
+
+
+def walks_by_ties(own, walk):
+    """Whether each step of what is a walk by kind goes by a tie, by the very words of the document."""
+    steps = zip(walk[0], walk[0][1:], walk[1])
+    return all(((p, q) if sign == "+" else (q, p)) in own[1] for p, q, sign in steps)
+
+
+def some_walk(chance, own, long):
+    """A walk of a web that has places, of at most so many signs."""
+    places, signs = [chance.randrange(own[0])], ""
+    for _ in range(long):
+        steps = [("+", q) for p, q in own[1] if p == places[-1]] + [("-", p) for p, q in own[1] if q == places[-1]]
+        if not steps:
+            break
+        sign, place = chance.choice(steps)
+        places.append(place)
+        signs += sign
+    return (tuple(places), signs)
+
+
+def some_closed_walk(chance, own, long):
+    """A closed walk of a web that has places, of about so many signs, by going back where it comes to no end."""
+    places, signs = some_walk(chance, own, long)
+    if places[0] in places[1:]:
+        last = len(places) - 1 - places[::-1].index(places[0])
+        return (places[:last + 1], signs[:last])
+    back = "".join("-" if sign == "+" else "+" for sign in signs[::-1])
+    return (places + places[-2::-1], signs + back)
+
+
+def all_of(k):
+    """ALL k, by the very words of the document."""
+    return (k, tuple(itertools.permutations(range(k), 2)))
+
+
+def least_hues(own):
+    """The least count of hues, by going through, or None where there is none."""
+    return next((k for k in range(own[0] + 1) if all_led(own, all_of(k))), None)
+
+
+def some_tied(chance, n, most):
+    """A web of n places without loops with at most so many twos of them tied."""
+    pairs = chance.sample(list(itertools.combinations(range(n), 2)), min(most, n * (n - 1) // 2))
+    ties = [tie for a, b in pairs for tie in chance.choice([[(a, b)], [(b, a)], [(a, b), (b, a)]])]
+    return web(n, *sorted(ties))
+
+
 def tree_led_on(tree, h):
     """The tree with h[a] for each a."""
     return (h[tree[0]], tuple((way, tree_led_on(inner, h)) for way, inner in tree[1]))
@@ -367,9 +428,88 @@ def otherwise(chance, thing):
         return thing[:k] + (otherwise(chance, thing[k]),) + thing[k + 1:]
     if isinstance(thing, tuple):
         return chance.choice([(), thing[:-1], thing + thing[-1:], thing[::-1], list(thing)])
+    if isinstance(thing, str) and set(thing) <= {"+", "-"}:
+        return chance.choice(["+" + thing[1:], "-" + thing[1:], thing[::-1], thing[1:], thing + "+", None, thing.replace("+", "-")])
     if isinstance(thing, str):
         return chance.choice([word for word in WORDS_OF.get(thing, ("",)) if word != thing])
+    if thing is None:
+        return chance.choice([(), 0, False, ((), ("void", 0))])
     return chance.choice([thing + 1, thing - 1, thing + 1, abs(thing - 1), True])
+
+
+class Due(Exception):
+    """What is due of lines that write no paper."""
+
+
+def paper_due(lines):
+    """The paper that lines write, or the (row, word) that is due, by the very words of the document."""
+    rows = list(enumerate(lines))
+
+    def number(word):
+        return word.isdigit() and len(word) < 4 and str(int(word)) == word
+
+    def look(row, line):
+        words = line.split(" ")
+        forms = {"strike": [number, number, number, lambda word: word in ("out", "in")], "void": [number],
+                 "cases": [number, number]}
+        if words[0] not in forms:
+            raise Due(row, 0)
+        asked = forms[words[0]]
+        for at, word in enumerate(words[1:], 1):
+            if at > len(asked) or not asked[at - 1](word):
+                raise Due(row, at)
+        if len(words) <= len(asked):
+            raise Due(row, len(words))
+        return [int(word) if word.isdigit() else word for word in words]
+
+    def paper():
+        strikes = []
+        while rows:
+            word, *told = look(*rows.pop(0))
+            if word == "strike":
+                strikes.append(tuple(told))
+            elif word == "void":
+                return (tuple(strikes), ("void", *told))
+            else:
+                return (tuple(strikes), ("cases", told[0], tuple([paper() for _ in range(told[1])])))
+        raise Due(len(lines), 0)
+
+    try:
+        found = paper()
+        if rows:
+            raise Due(rows[0][0], 0)
+        return found
+    except Due as due:
+        return list(due.args)
+
+
+class Model:
+    """What a holder holds, by the very words of the document."""
+
+    def __init__(self, W, V):
+        self.state = (W, ((*range(V[0]),),) * W[0])
+        self.V = V
+        self.pushed = []
+
+    def do(self, deed, *told):
+        """Does a deed, or tells the refusal that is due."""
+        (n, ties), lists = self.state
+        if deed == "push":
+            self.pushed.append(self.state)
+        elif deed == "pop":
+            if not self.pushed:
+                return (errors.NoLevel, ())
+            self.state = self.pushed.pop()
+        elif deed in ("hold", "bar"):
+            a, x = told
+            if x not in lists[a]:
+                return (errors.NoHold, told)
+            self.state = ((n, ties), put(lists, a, (x,) if deed == "hold" else [y for y in lists[a] if y != x]))
+        else:
+            if (told in ties) == (deed == "tie"):
+                return (errors.NoHold, told)
+            self.state = ((n, tuple(sorted({*ties} ^ {told}))), lists)
+        return None
 
 
 class Promise(unittest.TestCase):

@@ -34,6 +34,11 @@ NAMES = set("""
     copyright credits delattr dir eval exec exit gc getattr globals hasattr help id importlib license locals
     methodcaller os quit setattr super type vars sys
 """.split())
+BARRED_ATTRIBUTES = set("""
+    items keys values pop update append clear extend insert remove reverse setdefault sort args encode decode hex
+    fromhex format as_integer_ratio bit_count conjugate from_bytes is_integer to_bytes
+""".split())
+CHANGING = {"append", "clear", "extend", "insert", "pop", "remove", "reverse", "setdefault", "update", "sort"}
 PLAIN_NAME = re.compile(r"[A-Za-z][A-Za-z0-9_]*")
 FILE_NAME = re.compile(r"[a-z][a-z0-9_]*\.py|__init__\.py")
 BARRED_FILE = re.compile(r"law_.*|tests?|testing|test_.*|site|conftest|sitecustomize|usercustomize")
@@ -58,6 +63,10 @@ def findings(files):
                 found.extend((name, node.lineno, rule) for rule in look(node, parent, own))
     found.extend((name, 1, "L16") for name in trees if imports_itself(trees, name))
     found.extend(("*", 1, "L18") for word in own_methods(trees) & own_attributes(trees))
+    found.extend(("*", 1, "L26") for word in own_attributes(trees) & BARRED_ATTRIBUTES)
+    for name, tree in trees.items():
+        found.extend((name, line, "L18") for line in read_only(tree, own_attributes(trees)))
+        found.extend((name, node.lineno, "L23") for node in ast.walk(tree) if isinstance(node, ast.For) and changes_itself(node))
     return sorted(set(found))
 
 
@@ -81,6 +90,28 @@ def own_methods(trees):
 def own_attributes(trees):
     return {node.attr for tree in trees.values() for node in ast.walk(tree)
             if isinstance(node, ast.Attribute) and isinstance(node.ctx, ast.Store)}
+
+
+def read_only(tree, attributes):
+    """The lines on which an attribute is read, not called, that no class of the package has."""
+    called = {id(node.func) for node in ast.walk(tree) if isinstance(node, ast.Call)}
+    for node in ast.walk(tree):
+        if isinstance(node, ast.Attribute) and isinstance(node.ctx, ast.Load) and id(node) not in called:
+            if node.attr not in attributes:
+                yield node.lineno
+
+
+def changes_itself(loop):
+    """Whether a loop changes what it goes over, by its very name."""
+    over = {ast.unparse(node) for node in ast.walk(loop.iter) if isinstance(node, (ast.Name, ast.Attribute))}
+    for row in loop.body:
+        for node in ast.walk(row):
+            if isinstance(node, ast.Call) and isinstance(node.func, ast.Attribute):
+                if node.func.attr in CHANGING and ast.unparse(node.func.value) in over:
+                    return True
+            if isinstance(node, ast.Subscript) and not isinstance(node.ctx, ast.Load) and ast.unparse(node.value) in over:
+                return True
+    return False
 
 
 def file_amiss(name, source):

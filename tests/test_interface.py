@@ -53,10 +53,35 @@ INTERFACE = {
     "trees": {"is_tree": 2, "images": 4},
     "barchecker": {"lets_bar": 4},
     "bars": {"bar_told": 3},
+    "walks": {"is_walk": 2, "net_of": 1, "long_of": 1, "is_closed": 1, "levels": 1, "longest": 1},
+    "walkchecker": {"lets_round": 3, "lets_line": 3, "lets_two": 2},
+    "barring": {"round_told": 2, "line_told": 2, "two_told": 1},
+    "huechecker": {"lets_hues": 2, "shown_by": 2},
+    "hues": {"hues_told": 1, "taken_out": 3, "merged": 3, "hue_tree": 1, "hue_poly": 1, "value_at": 2},
+    "paperlines": {"paper_lines": 1, "read_paper": 1},
+}
+
+
+# The classes that are no refusals: of what they are made, and their own methods.
+CLASSES = {
+    "holder": ("Holder", ((1, ()), (1, ())), {
+        "hold": 2, "bar": 2, "tie": 2, "untie": 2, "push": 0, "pop": 0, "web": 0, "lists": 0, "level": 0, "answer": 0,
+        "closed_lists": 0, "count": 0,
+    }),
+    "desk": ("Desk", ((1, ()), (1, ())), {"say": 1}),
 }
 
 
 class Interface(unittest.TestCase):
+    def test_classes_and_their_own_methods(self):
+        for module, (name, made_of, methods) in CLASSES.items():
+            kind = getattr(importlib.import_module("webintoweb." + module), name)
+            self.assertEqual(kind.__module__, "webintoweb." + module)
+            kind(*made_of)
+            for method, many in methods.items():
+                # In the class itself, not only in one above it.
+                self.assertEqual(len(inspect.signature(vars(kind)[method]).parameters), many + 1, method)
+
     def test_names_and_arguments(self):
         for module, names in INTERFACE.items():
             found = importlib.import_module("webintoweb." + module)

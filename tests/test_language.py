@@ -78,6 +78,15 @@ class Look(unittest.TestCase):
         ]:
             self.assertIn(rule, self.rules(source), source)
 
+    def test_classes_and_loops(self):
+        source = "class A:\n    def __init__(self):\n        self.{0} = 1\n\n    def told(self):\n        return self.{1}\n"
+        self.assertEqual(findings({"plain.py": source.format("row", "row")}), [])
+        self.assertEqual(findings({"plain.py": source.format("row", "rows")}), [("plain.py", 6, "L18")])
+        self.assertEqual(findings({"plain.py": source.format("args", "args")}), [("*", 1, "L26")])
+        for row, amiss in [("ys.append(x)", False), ("xs.append(x)", True), ("xs[0] = x", True), ("del xs[0]", True)]:
+            source = f"def f(xs, ys):\n    for x in xs:\n        {row}\n"
+            self.assertEqual("L23" in self.rules(source), amiss, row)
+
     def test_names_of_files(self):
         for name in ("Plain.py", "test_a.py", "tests.py", "len.py", "range.py", "a-b.py", "site.py"):
             self.assertIn("L14", self.rules("X = 1\n", name), name)

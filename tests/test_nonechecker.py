@@ -124,6 +124,8 @@ class Deep(Promise):
 
     def test_few_calls_stand_within_one_another(self):
         self.assertIs(self.shallow(lets_none, self.W, self.V, self.LISTS, self.within(60, self.RIGHT)), True)
+        # As deep as the rows of a desk may write them.
+        self.assertIs(self.shallow(lets_none, self.W, self.V, self.LISTS, self.within(540, self.RIGHT)), True)
 
 
 class Refused(Promise):

@@ -7,22 +7,26 @@ from webintoweb.strikes import WAYS, are_strikes_by_kind, struck_as_far
 
 def lets_none(W, V, lists, thing):
     """True where any plain thing is a none paper of W, V and the lists."""
-    look_at(W, V, lists, thing, (), WAYS)
+    look_at(W, V, lists, thing, WAYS)
     return True
 
 
-def look_at(W, V, lists, thing, path, ways):
-    """Refuses what stands at path, with strikes of these ways, if it, or first what is in it, is amiss."""
-    if not is_paper_by_kind(W, V, thing, ways):
-        raise NoPaper(path, "shape", -1)
-    strikes, end = thing
-    far, lists = struck_as_far(W, V, lists, strikes)
-    if far < len(strikes):
-        raise NoPaper(path, "strike", far)
-    if end[0] == "void":
-        look_at_void(lists, end[1], path)
-    else:
-        look_at_cases(W, V, lists, end, path, ways)
+def look_at(W, V, lists, thing, ways):
+    """Refuses the first paper amiss of thing and all that is in it, with strikes of these ways."""
+    # The papers still ahead, the next one last: so a row of lines may write cases however deep.
+    ahead = [((), lists, thing)]
+    while ahead:
+        path, before, paper = ahead.pop()
+        if not is_paper_by_kind(W, V, paper, ways):
+            raise NoPaper(path, "shape", -1)
+        strikes, end = paper
+        far, left = struck_as_far(W, V, before, strikes)
+        if far < len(strikes):
+            raise NoPaper(path, "strike", far)
+        if end[0] == "void":
+            look_at_void(left, end[1], path)
+        else:
+            ahead.extend(parts_ahead(left, end[1], end[2], path)[::-1])
 
 
 def look_at_void(lists, a, path):
@@ -31,14 +35,11 @@ def look_at_void(lists, a, path):
         raise NoPaper(path, "void", a)
 
 
-def look_at_cases(W, V, lists, end, path, ways):
-    """Refuses cases that are not one part for each thing of the list, or parts that are amiss."""
-    a = end[1]
-    parts = end[2]
+def parts_ahead(lists, a, parts, path):
+    """The parts, each with its path and its lists, refused where they are not one for each thing of a's list."""
     if len(parts) != len(lists[a]):
         raise NoPaper(path, "parts", len(lists[a]))
-    for k, x in enumerate(lists[a]):
-        look_at(W, V, with_list(lists, a, (x,)), parts[k], path + (k,), ways)
+    return [(path + (k,), with_list(lists, a, (x,)), parts[k]) for k, x in enumerate(lists[a])]
 
 
 def is_paper_by_kind(W, V, thing, ways):

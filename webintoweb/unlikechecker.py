@@ -11,7 +11,7 @@ COUNTS = ("counts",)
 def lets_unlike(one, other, thing):
     """True where any plain thing is an unlike paper of both webs."""
     if thing != COUNTS:
-        look_at(one, other, full_lists(one, other), thing, (), WAYS + ("else",))
+        look_at(one, other, full_lists(one, other), thing, WAYS + ("else",))
     elif are_counts_like(one, other):
         raise NoPaper((), "counts", -1)
     return True
